@@ -1,0 +1,1 @@
+"""Behindtaps: what holds for all pipes behind a wall."""
