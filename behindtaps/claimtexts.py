@@ -67,10 +67,10 @@ def read_text(text):
     taps = tuple(names.split(" "))
     if not are_taps(taps):
         return None
-    left, sign, right = sides.partition(" >= ")
+    left, _, right = sides.partition(" >= ")
     left_terms = read_side(taps, left)
     right_terms = read_side(taps, right)
-    if sign == "" or left_terms is None or right_terms is None:
+    if left_terms is None or right_terms is None:
         return None
     return summed(taps, left_terms + [(lot, turned(weight)) for lot, weight in right_terms])
 
@@ -87,9 +87,9 @@ def read_side(taps, text):
 
 def read_term(taps, text):
     """The lot and the weight above 0 of a term; None if it is no term."""
-    start, sign, end = text.partition(" w(")
+    start, _, end = text.partition(" w(")
     weight = read_number(start)
     lot = tuple(end[:-1].split(" "))
-    if sign == "" or not end.endswith(")") or not is_lot(taps, lot) or weight is None or weight == 0:
+    if not end.endswith(")") or not is_lot(taps, lot) or weight is None or weight == 0:
         return None
     return (lot, weight)

@@ -12,8 +12,6 @@ MOST_UNKNOWNS = 80
 def solved(rows):
     """A point that meets the rows, or weights that show that there is none."""
     check_rows(rows)
-    if len(rows) == 0:
-        return ("point", ())
     told = lowest(rows, (0,) * unknowns_of(rows))
     if told[0] == "none":
         return ("weights", told[1])

@@ -21,7 +21,7 @@ def read_net(text):
         raise BadText(1)
     lines = text.split("\n")
     taps = read_taps_line(lines[0])
-    if taps is None or len(lines) == 1:
+    if taps is None:
         raise BadText(1)
     parts = []
     for at in range(1, len(lines) - 1):

@@ -225,7 +225,8 @@ class WorthTest(unittest.TestCase):
         right = {"a": "x", "b": "y", "c": "z"}
         no_names = (None, True, [], [("a", "x")], {}, {"a": "x", "b": "y"}, {**right, "d": "w"}, {**right, "c": "x"},
                     {**right, "c": "C"}, {**right, "c": None}, {**right, "c": ["z"]}, {"a": "x", "b": "y", "d": "z"},
-                    {**right, "c": 1}, {**right, 1: "q"}, tuple(right.items()), {**right, "c": ""})
+                    {**right, "c": 1}, {**right, 1: "q"}, tuple(right.items()), {**right, "c": ""}, {**right, "d": "z"},
+                    {**right, "c": "abcdefghi"})
         assert_errors(self, renamed_claim, (CLAIM, right), [(0, BadClaim, NO_CLAIMS), (1, BadTaps, no_names)])
 
 
@@ -322,6 +323,10 @@ class SumOrTableTest(unittest.TestCase):
                       {("a",): -1, ("b",): (0, 1)}, {("a",): -1, "b": 0}, {("a",): 1, ("b",): 0}):
             self.assertIs(is_sum_or_table([(AB, ((("b",), 1),))], claim, "leads", ("table", table)), False, table)
         self.assertIs(is_sum_or_table([lone], claim, "pipes", ("table", {("a",): -1})), True)
+        for word in ("Table", "sum", "tables", "", None, 1, ("table",)):
+            self.assertIs(is_sum_or_table([lone], claim, "pipes", (word, {("a",): -1})), False)
+        for word in ("Sum", "table", "", None, 1, ("sum",)):
+            self.assertIs(is_sum_or_table(claims, claim, "pipes", (word, (4, 0))), False)
         for value in (None, (), ("sum",), ("sum", (4, 0), 0), ["sum", (4, 0)], ("Sum", (4, 0)), (None, (4, 0)), "sum",
                       ("table", (4, 0)), ("sum", {("a",): -1}), True, 1, {}, (("sum",), (4, 0))):
             self.assertIs(is_sum_or_table(claims, claim, "pipes", value), False, value)
@@ -333,6 +338,8 @@ class SumOrTableTest(unittest.TestCase):
         assert_errors(self, sum_or_table, ([CLAIM, EMPTY_CLAIM], CLAIM, "pipes"), wrong)
         assert_errors(self, is_sum_or_table, ([CLAIM, EMPTY_CLAIM], CLAIM, "pipes", None), wrong)
         assert_errors(self, sum_or_table, ([], CLAIM, "pipes"), [(1, BadClaim, NO_CLAIMS), (2, BadSort, NO_SORTS)])
+        assert_errors(self, sum_or_table, ([CLAIM], CLAIM, "pipes"), [(1, BadClaim, OTHER_CLAIMS), (2, BadSort, NO_SORTS)])
+        assert_raises(self, sum_or_table, ([(AB, ())], CLAIM, "pipes"), BadClaim)
         self.assertIsNone(error_of(sum_or_table, ([EMPTY_CLAIM] * 20, CLAIM, "hubs")))
 
     def test_the_table_is_new(self):

@@ -18,6 +18,7 @@ NO_SIDES = (None, True, 1, "a", ["a"], ("b", "a"), ("a", "a"), ("a", "q"), ("d",
 NO_BLOCKS = ((),) + NO_SIDES
 WRONG_BLOCKS = [(0, BadNet, NO_NETS), (1, BadPlaces, NO_BLOCKS), (2, BadPlaces, NO_BLOCKS)]
 A, B, X = ("a",), ("b",), ("x",)
+AB = ("a", "b")
 
 
 def drawn_blocks(draw, net):
@@ -150,6 +151,33 @@ class FlowsTest(unittest.TestCase):
                 self.assertEqual(flow_faults(net, source, target, flow), [])
                 self.assertEqual([flow_amount(net, source, flow), cost_of(net, side)], [fraction(amount)] * 2)
                 self.assertEqual(cost, amount)
+
+    def test_what_runs_first_must_be_turned_back(self):
+        # The shortest way runs from p to q, but the greatest flow leaves this part empty.
+        links = (("a", "p"), ("p", "q"), ("q", "b"), ("a", "u"), ("u", "v"), ("v", "q"), ("p", "w"), ("w", "z"), ("z", "b"))
+        for width in (1, (1, 2), LONG):
+            leads = tuple(("lead", start, end, width) for start, end in links)
+            pipes = tuple(("pipe", *sorted(link), width) for link in links)
+            hubs = tuple(("hub", tuple(sorted(link)), width) for link in links)
+            for parts in (leads, pipes, hubs):
+                net = (AB, parts)
+                amount, flow = greatest_flow(net, A, B)
+                self.assertEqual(fraction(amount), 2 * fraction(width))
+                self.assertEqual(flow_faults(net, A, B, flow), [])
+                self.assertEqual(flow_amount(net, A, flow), fraction(amount))
+
+    def test_what_runs_first_through_a_hub_must_be_turned_back(self):
+        # r is nearer to the hub than q; but r has another way, and q has none.
+        into = (AB, (("pipe", "a", "r", 1), ("pipe", "a", "s", 1), ("pipe", "q", "s", 1), ("hub", ("b", "q", "r"), 1),
+                     ("pipe", "r", "t", 1), ("pipe", "t", "u", 1), ("pipe", "u", "v", 1), ("pipe", "b", "v", 1)))
+        # The same the other way round: what comes out of the hub goes another way.
+        out = (AB, (("pipe", "b", "r", 1), ("pipe", "b", "s", 1), ("pipe", "q", "s", 1), ("hub", ("a", "q", "r"), 1),
+                    ("pipe", "r", "t", 1), ("pipe", "t", "u", 1), ("pipe", "u", "v", 1), ("pipe", "a", "v", 1)))
+        for net in (into, out):
+            amount, flow = greatest_flow(net, A, B)
+            self.assertEqual(amount, 2)
+            self.assertEqual(flow_faults(net, A, B, flow), [])
+            self.assertEqual(least_side(net, A, B)[0], 2)
 
     def test_no_parts(self):
         self.assertEqual(greatest_flow(EMPTY, A, B), (0, ()))

@@ -340,6 +340,10 @@ class JudgedTest(unittest.TestCase):
         for weights in ((1, 1, 0), (2, 0, 1), (4, 2, 1), ((1, 2), (1, 2), 0)):
             self.assertIs(is_solved(clash, ("weights", weights)), True)
             self.assertIs(is_least(clash, (7,), ("none", weights)), True)
+        for word in ("none", "Weights", "point", "", None, 1, ("weights",)):
+            self.assertIs(is_solved(clash, (word, (1, 1, 0))), False)
+        for word in ("weights", "None", "endless", "least", "", None, 1, ("none",)):
+            self.assertIs(is_least(clash, (7,), (word, (1, 1, 0))), False)
         for weights in ((0, 0, 0), (1, 0, 0), (2, 1, 0), (1, 1), (1, 1, 0, 0), (-1, -1, 0), (2, 4, -1), [1, 1, 0]):
             self.assertIs(is_solved(clash, ("weights", weights)), False)
             self.assertIs(is_least(clash, (7,), ("none", weights)), False)
@@ -442,6 +446,9 @@ class ErrorsTest(unittest.TestCase):
                    (1, [1]), ((1, 1), 1))
         assert_errors(self, least, (ROWS, (1, 1)), [(0, BadRows, NO_ROWS), (1, BadAim, no_aims)])
         assert_errors(self, is_least, (ROWS, (1, 1), None), [(0, BadRows, NO_ROWS), (1, BadAim, no_aims)])
+        for aim in ((), (1,), (1, 1, 1), 5, (1, True)):
+            assert_raises(self, least, ([((1, 1), 0)], aim), BadAim)
+            assert_raises(self, is_least, ([((1, 1), 0)], aim, None), BadAim)
         for aim in (None, [0], (True,), "aim", 0, ((2, 4),)):
             assert_raises(self, least, ([], aim), BadAim)
             assert_raises(self, is_least, ([], aim, ()), BadAim)
@@ -450,6 +457,8 @@ class ErrorsTest(unittest.TestCase):
         no_points = (None, True, 1, [1, 2], (), (1,), (1, 2, 3), (0, 2), (1, 1), (9, 9), (True, 2), (1, (4, 2)), {},
                      (1, "2"))
         assert_errors(self, tight, (ROWS, (1, 2)), [(0, BadRows, NO_ROWS), (1, BadPoint, no_points)])
+        for point in ((), (1,), (1, 1, 1), 5, (1, True), (0, 0)):
+            assert_raises(self, tight, ([((1, 1), 1)], point), BadPoint)
         for point in (None, [1], (True,), "p", {}, ((2, 4),)):
             assert_raises(self, tight, ([], point), BadPoint)
 

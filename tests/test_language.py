@@ -12,7 +12,7 @@ LIBRARY = {"heapq": {"heappush", "heappop", "heapify", "heapreplace", "heappushp
            "collections": {"defaultdict"}}
 BARRED_NODES = (ast.Global, ast.AsyncFunctionDef, ast.Await, ast.AsyncFor, ast.AsyncWith, ast.Div, ast.MatMult, ast.Import)
 BARRED_NAMES = {"eval", "exec", "compile", "open", "input", "print", "float", "complex", "round", "hash", "id", "type", "vars",
-                "dir", "globals", "locals", "object", "chr", "format", "filter", "slice", "super_", "memoryview", "bytearray",
+                "dir", "globals", "locals", "object", "chr", "format", "filter", "slice", "memoryview", "bytearray",
                 "hex", "oct", "bin", "delattr", "callable", "issubclass", "ascii", "aiter", "anext", "breakpoint"}
 
 

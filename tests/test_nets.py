@@ -143,6 +143,16 @@ class BesideTest(unittest.TestCase):
         told = (AB, first[1] + (("pipe", "n1", "n4", 1), ("pipe", "n5", "n6", 1), ("pipe", "n2", "n6", 2)))
         self.assertEqual(beside(first, second), told)
 
+    def test_new_names_are_the_first_ones_that_are_free(self):
+        first = (AB, tuple(("pipe", "a", place, 1) for place in ("n0", "n2", "x", "y", "z")))
+        second = (AB, tuple(("pipe", "a", place, 1) for place in ("n3", "x", "y", "z")))
+        told = tuple(("pipe", "a", place, 1) for place in ("n3", "n1", "n4", "n5"))
+        self.assertEqual(beside(first, second)[1][5:], told)
+        self.assertEqual(beside(second, first)[1][4:], tuple(("pipe", "a", place, 1)
+                                                             for place in ("n0", "n2", "n1", "n4", "n5")))
+        one = (AB, (("pipe", "a", "n0", 1), ("pipe", "b", "n1", 1)))
+        self.assertEqual(beside(one, one)[1][2:], (("pipe", "a", "n2", 1), ("pipe", "b", "n3", 1)))
+
     def test_taps_called_like_new_names(self):
         taps = ("n0", "n1")
         net = (taps, (("pipe", "n0", "x", 1), ("pipe", "n1", "x", 1)))
