@@ -3,7 +3,7 @@
 from behindtaps.currents import Current
 from behindtaps.errors import BadFlow, BadPlaces
 from behindtaps.lots import are_names, check_lot, lots_in, opposite_in, plain_lots_in
-from behindtaps.nets import check_net, has_kind, places_in, places_of_part, sort_in
+from behindtaps.nets import check_net, places_in, places_of_part, sort_in
 from behindtaps.numbers import are_numbers, divided, is_less, is_number, is_number_from_0, minus, over_one_bottom
 from behindtaps.numbers import plus, sum_of, top_of, turned
 
