@@ -38,15 +38,23 @@ class Current:
 
     def levels_from(self, source):
         """How many arcs with room lead at least from the source to each node, None where none do."""
+        return self.levels_at(source, 0)
+
+    def levels_to(self, target):
+        """How many arcs with room lead at least from each node to the target, None where none do."""
+        return self.levels_at(target, 1)
+
+    def levels_at(self, start, turn):
+        """The levels of all nodes along the arcs (turn 0), or against them (turn 1), from one node on."""
         levels = [None] * len(self.leaving)
-        levels[source] = 0
-        reached = [source]
+        levels[start] = 0
+        reached = [start]
         while len(reached) > 0:
             further = []
             for node in reached:
                 for arc in self.leaving[node]:
                     end = self.ends[arc]
-                    if self.room[arc] > 0 and levels[end] is None:
+                    if self.room[arc ^ turn] > 0 and levels[end] is None:
                         levels[end] = levels[node] + 1
                         further.append(end)
             reached = further

@@ -225,6 +225,11 @@ def names_beside(first, second):
     return names
 
 
+def names_unlike(taken, many):
+    """So many names that are none of those taken: the first of n0, n1, n2 and so on."""
+    return [name for name in [f"n{at}" for at in range(len(taken) + many)] if name not in taken][:many]
+
+
 def renamed_part(part, names):
     """The part with places under new names, those of a pipe or hub put in order, each one once."""
     places = [names.get(place, place) for place in places_of_part(part)]

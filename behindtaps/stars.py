@@ -6,7 +6,7 @@ from behindtaps.claims import check_claim, check_other, summed
 from behindtaps.errors import BadNet, BadWidths, BadWorths
 from behindtaps.flows import walls
 from behindtaps.lots import check_taps, plain_lots_in
-from behindtaps.nets import check_net, has_kind
+from behindtaps.nets import check_net, has_kind, names_unlike
 from behindtaps.numbers import is_less, is_number, is_number_from_0, quotient, sum_of_products, top_of, turned
 from behindtaps.systems import solution
 
@@ -22,8 +22,9 @@ def star_net(taps, widths):
     check_taps(taps)
     check_widths(taps, widths)
     parts = []
-    middles = names_unlike(taps)
-    for at, even in enumerate(even_sets_in(taps)):
+    evens = even_sets_in(taps)
+    middles = names_unlike(taps, len(evens))
+    for at, even in enumerate(evens):
         if widths.get(even, 0) != 0:
             parts.extend(star_parts(even, middles[at], widths[even]))
     return (taps, tuple(parts))
@@ -89,12 +90,6 @@ def check_worths(taps, worths):
         raise BadWorths("worths is a dict from just the even sets of the taps")
     if not all([is_number(worth) for worth in worths.values()]):
         raise BadWorths("worths are numbers")
-
-
-def names_unlike(taps):
-    """As many names that are no taps as there are even sets."""
-    names = [f"n{at}" for at in range(len(even_sets_in(taps)) + len(taps))]
-    return [name for name in names if name not in taps]
 
 
 def star_parts(even, middle, width):
