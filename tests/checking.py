@@ -76,7 +76,12 @@ def assert_raises(case, function, arguments, kind, **fields):
     case.assertIs(type(error), kind, (function.__name__, arguments))
     for name, value in fields.items():
         case.assertEqual(getattr(error, name), value, (function.__name__, arguments))
-    case.assertEqual(repr(before), repr(arguments))
+    case.assertEqual(shown(before), shown(arguments))
+
+
+def shown(arguments):
+    """What arguments say, True and 1 told apart, books by their claims."""
+    return [repr(value.claims() if hasattr(value, "claims") else value) for value in arguments]
 
 
 def assert_new(case, function, arguments):

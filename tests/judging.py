@@ -11,6 +11,11 @@ ABCD = ("a", "b", "c", "d")
 C = (ABCD, ((("a",), -1), (("a", "b"), 1), (("a", "c"), 1), (("a", "d"), 1), (("b",), -1), (("c",), -1), (("d",), -1)))
 
 
+def worth_of(value):
+    """A fraction as it is, or what a number is worth."""
+    return value if isinstance(value, Fraction) else fraction(value)
+
+
 class Cube:
     """The cube of directions [(lot, weight)], weights fractions, as [41] tells it."""
 
@@ -116,7 +121,7 @@ def counted_worth(claim, net):
 def lessened(claim, lot, share):
     """The claim, its terms as they stand, less share times the wall of the lot."""
     weights = {one: fraction(weight) for one, weight in claim[1]}
-    weights[lot] = weights.get(lot, 0) - fraction(share)
+    weights[lot] = weights.get(lot, 0) - worth_of(share)
     return claim_with(claim[0], weights)
 
 
@@ -142,7 +147,7 @@ def sum_weights(taps, weighted, sort):
     for weights, factor in weighted:
         for lot, weight in weights.items():
             key = lot if sort == "leads" else plain(taps, lot)
-            found[key] = found.get(key, 0) + fraction(factor) * fraction(weight)
+            found[key] = found.get(key, 0) + worth_of(factor) * worth_of(weight)
     return {lot: found[lot] for lot in sorted(found) if found[lot] != 0}
 
 

@@ -30,17 +30,34 @@ MODULES = {
     "stars": "even_sets(taps), star_net(taps, widths), star_shares(net), star_worths(claim), "
              "claim_by_stars(taps, worths), parting_stars(claim, other)",
     "claimtexts": "claim_text(claim), read_claim(text), claims_text(claims), read_claims(text)",
+    "cubes": "corners(claim, sort), tap_corners(claim, sort), spans(claim, sort), is_paper(claim, sort, value), "
+             "cube_places(claim, sort), cube_net(claim, sort, widths)",
+    "verdicts": "verdict(claim, sort), greatest_share(claim, sort, lot)",
+    "flowclaims": "is_flow_claim(value), flow_worth(claim, net), standings(claim), "
+                  "is_flow_paper(claim, sort, standing, value), flow_verdict(claim, sort)",
+    "widest": "is_rule(taps, way, value), rule_worth(claim, way, rule), steps_claim(taps, way, steps), "
+              "is_derivation(claim, way, value, given=()), widest(claim, way, given=()), four_lots(taps)",
+    "sorts": "realms_of(claim), parting(claim, realm, other), led_paper(claim, paper), one_way_net(net)",
+}
+CLASSES = {
+    "sorts": {"ClaimBook": ("(taps, claims=())", "taps", "put(claim), drop(claim), claims(), holding(realm), "
+                            "follows(claim, way), needed(way), joined(other), __eq__(other), __len__()")},
 }
 
 
 def told_functions(text):
     """The dict from each name to its parameters."""
     told = {}
-    for words in text.split("),"):
-        name, _, parameters = words.strip().rstrip(")").partition("(")
-        if name:
-            told[name] = parameters.split(", ")
+    for words in f"{text}, ".split("), "):
+        if words.strip(", "):
+            name, _, parameters = words.partition("(")
+            told[name] = f"({parameters})"
     return told
+
+
+def signature(function):
+    """The parameters of a function and their default values, as the document writes them."""
+    return str(inspect.signature(function))
 
 
 class InterfaceTest(unittest.TestCase):
@@ -51,7 +68,22 @@ class InterfaceTest(unittest.TestCase):
             for name, parameters in told_functions(text).items():
                 self.assertIn(name, defined, module)
                 function = getattr(importlib.import_module(f"behindtaps.{module}"), name)
-                self.assertEqual(list(inspect.signature(function).parameters), parameters, name)
+                self.assertEqual(signature(function), parameters, name)
+
+    def test_classes_define_their_methods_themselves(self):
+        for module, classes in CLASSES.items():
+            tree = ast.parse((PACKAGE / f"{module}.py").read_text(encoding="utf-8"))
+            bodies = {node.name: node.body for node in tree.body if isinstance(node, ast.ClassDef)}
+            for name, (parameters, attributes, methods) in classes.items():
+                made = getattr(importlib.import_module(f"behindtaps.{module}"), name)
+                self.assertEqual(signature(made), parameters)
+                defined = {node.name for node in bodies[name] if isinstance(node, ast.FunctionDef)}
+                for method, wanted in told_functions(methods).items():
+                    self.assertIn(method, defined, name)
+                    self.assertEqual(signature(getattr(made, method)).replace("(self, ", "(").replace("(self)", "()"),
+                                     wanted)
+                for attribute in attributes.split(", "):
+                    self.assertNotIn(attribute, defined)
 
     def test_the_package_itself_defines_nothing(self):
         tree = ast.parse((PACKAGE / "__init__.py").read_text(encoding="utf-8"))
