@@ -3,6 +3,7 @@
 from behindtaps.climbs import Climb
 from behindtaps.cuts import Cutter
 from behindtaps.frames import all_corners, corner_of, cost_of, face_of, lies_below, net_with_joints, spans_of
+from behindtaps.frames import wide_beyond
 from behindtaps.numbers import divided, over_one_bottom
 
 
@@ -22,25 +23,13 @@ class Contest:
         tops, _ = over_one_bottom([*costs, *[weight for _, _, weight in targets]])
         self.costs = tops[:len(costs)]
         self.weights = tops[len(costs):]
-        self.cutters = self.cutters_for(frame, targets)
+        self.cutters = cutters_for(frame, targets)
         self.lots = []
         self.ascent = Climb([0] * len(costs) + self.weights)
         self.ascent.put_row(list(enumerate(self.costs)), 1)
         self.widths = [0] * len(costs)
         self.put_cuts(self.cuts_for(self.widths))
         self.ascent.go_up()
-
-    def cutters_for(self, frame, targets):
-        """What parts the ones of each target from its zeros."""
-        at = {}
-        for place, corner in enumerate(self.corners):
-            at[corner] = place
-        faces = [[at[corner] for corner in face_of(span)] for span in self.spans]
-        found = []
-        for ones, zeros, _ in targets:
-            blocks = [[at[corner_of(frame, tap)] for tap in block] for block in (ones, zeros)]
-            found.append(Cutter(len(self.corners), faces, frame[1], blocks[0], blocks[1]))
-        return found
 
     def cuts_for(self, widths):
         return [cutter.cuts(widths) for cutter in self.cutters]
@@ -97,6 +86,19 @@ class Contest:
         return found
 
 
+def cutters_for(frame, targets):
+    """What parts the ones of each target from its zeros."""
+    at = {}
+    for place, corner in enumerate(all_corners(len(frame[2]))):
+        at[corner] = place
+    faces = [[at[corner] for corner in face_of(span)] for span in spans_of(frame)]
+    found = []
+    for ones, zeros, _ in targets:
+        blocks = [[at[corner_of(frame, tap)] for tap in block] for block in (ones, zeros)]
+        found.append(Cutter(len(at), faces, frame[1], blocks[0], blocks[1]))
+    return found
+
+
 def can_be_parted(frame, target):
     """Whether some numbers have 1 at the ones of a target and 0 at its zeros, and for leads never less above."""
     for one in [corner_of(frame, tap) for tap in target[0]]:
@@ -115,8 +117,9 @@ def paper_or_net(frame, targets):
     if len(targets) == 0:
         return ("holds", ())
     if not all([can_be_parted(frame, target) for target in targets]):
-        return ("breaks", net_with_joints(frame, {}))
+        return ("breaks", net_with_joints(frame, {}, 1))
     contest = Contest(frame, targets)
     if contest.holds():
         return ("holds", contest.paper())
-    return ("breaks", net_with_joints(frame, contest.told_widths()))
+    widths = contest.told_widths()
+    return ("breaks", net_with_joints(frame, widths, wide_beyond(list(widths.values()))))

@@ -3,7 +3,7 @@
 from behindtaps.claims import check_claim, greater_terms, lesser_terms, plain_in
 from behindtaps.errors import BadWidths
 from behindtaps.frames import all_corners, check_directions, corners_of, is_paper_of, parts_along, places_of_corners
-from behindtaps.frames import spans_of
+from behindtaps.frames import spans_of, wide_beyond
 from behindtaps.lots import check_sort, opposite_in
 from behindtaps.numbers import is_number_from_0, is_whole
 
@@ -41,7 +41,7 @@ def cube_net(claim, sort, widths):
         raise BadWidths("widths is a dict from spans of the sort")
     if not all([is_number_from_0(width) for width in widths.values()]):
         raise BadWidths("widths are numbers from 0 on")
-    return (claim[0], tuple(parts_along(frame, widths)))
+    return (claim[0], tuple(parts_along(frame, widths, wide_beyond(list(widths.values())))))
 
 
 def frame_for(claim, sort):

@@ -131,8 +131,13 @@ def places_of_corners(frame):
     return found
 
 
-def parts_along(frame, widths):
-    """The parts that lie along the spans of these widths."""
+def wide_beyond(widths):
+    """A width beyond that of all of these together."""
+    return plus(1, sum_of(widths))
+
+
+def parts_along(frame, widths, wide):
+    """The parts that lie along the spans of these widths; the leads back have the width wide."""
     places = places_of_corners(frame)
     parts = []
     for span in spans_of(frame):
@@ -140,8 +145,7 @@ def parts_along(frame, widths):
         if width != 0:
             parts.append(part_along(frame[1], [places[corner] for corner in face_of(span)], width))
     if frame[1] == "leads":
-        back = plus(1, sum_of(list(widths.values())))
-        parts.extend([("lead", places[low], places[high], back) for low, high in spans_of(frame)])
+        parts.extend([("lead", places[low], places[high], wide) for low, high in spans_of(frame)])
     return parts
 
 
@@ -154,17 +158,16 @@ def part_along(sort, places, width):
     return ("pipe", min(places), max(places), width)
 
 
-def net_with_joints(frame, widths):
-    """The net along the spans in which all taps of one corner are joined, more widely than anything else is.
+def net_with_joints(frame, widths, wide):
+    """The net along the spans in which all taps of one corner are joined, by pipes of the width wide.
 
     Nothing that parts the cube parts such taps, so this takes from no wall of a direction; what runs to
-    one of them runs to all.
+    one of them runs to all, if wide is beyond all widths.
     """
     places = places_of_corners(frame)
-    wide = plus(1, sum_of(list(widths.values())))
     joints = []
     for tap in frame[0]:
         place = places[corner_of(frame, tap)]
         if place != tap:
             joints.append(("pipe", place, tap, wide))
-    return (frame[0], tuple([*parts_along(frame, widths), *joints]))
+    return (frame[0], tuple([*parts_along(frame, widths, wide), *joints]))
