@@ -38,6 +38,18 @@ MODULES = {
     "widest": "is_rule(taps, way, value), rule_worth(claim, way, rule), steps_claim(taps, way, steps), "
               "is_derivation(claim, way, value, given=()), widest(claim, way, given=()), four_lots(taps)",
     "sorts": "realms_of(claim), parting(claim, realm, other), led_paper(claim, paper), one_way_net(net)",
+    "kinds": "kinds(taps, sort), is_table(taps, sort, value), checks(taps, sort), first_failed(taps, sort, table), "
+             "reached(taps, sort, table), verdict_by_kinds(claim, sort)",
+    "forms": "is_form(value), form_of_net(net), form_of_table(taps, sort, table), table_of_form(form), net_of_form(form), "
+             "sum_of_forms(one, other), form_times(form, factor), melted_form(form, kept, gone), hidden_form(form, tap), "
+             "straight(net)",
+    "facts": "is_fact(taps, value), measured(taps, walls), keeps(net, facts), rest(taps, facts, weights, fact), "
+             "is_reason(taps, facts, sort, fact, value), follows(taps, facts, sort, fact)",
+    "ranges": "least_sum(taps, facts, sort, terms), range_of(taps, facts, sort, lot), ranges(taps, facts, sort), "
+              "settled(taps, facts, sort), enough(taps, facts, sort, fact)",
+    "sendings": "parted(net, wishes, lot), is_sending(net, value), carried(net, sending), loads(net, sending), "
+                "distance(net, lengths, pair), is_bar(net, wishes, value), shrunk(net, sending, factor), "
+                "mixed(net, sending, more, factor), sent_beside(first, sending, second, more)",
 }
 CLASSES = {
     "sorts": {"ClaimBook": ("(taps, claims=())", "taps", "put(claim), drop(claim), claims(), holding(realm), "
