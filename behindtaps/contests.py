@@ -114,8 +114,6 @@ def paper_or_net(frame, targets):
     If a target cannot be parted at all, no widths are needed: what joins taps of one corner, or for
     leads what leads upwards, is enough.
     """
-    if len(targets) == 0:
-        return ("holds", ())
     if not all([can_be_parted(frame, target) for target in targets]):
         return ("breaks", net_with_joints(frame, {}, 1))
     contest = Contest(frame, targets)

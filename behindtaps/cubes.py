@@ -65,7 +65,7 @@ def targets_of(claim, sort):
 
 def is_span_of(frame, value):
     """Whether any value is a span of the frame; True and False are no sides of a corner."""
-    if not isinstance(value, tuple) or len(value) != 2:
+    if not isinstance(value, tuple):
         return False
     if not all([isinstance(corner, tuple) and all([is_whole(side) for side in corner]) for corner in value]):
         return False

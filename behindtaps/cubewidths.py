@@ -71,6 +71,5 @@ class CubeWidths:
         """The net along the spans with these widths, in which as much runs from each lesser lot as is counted."""
         widths = {}
         for span, width in zip(self.spans, point):
-            if width != 0:
-                widths[span] = width
+            widths[span] = width
         return net_with_joints(self.frame, widths, wide_beyond(point))

@@ -106,7 +106,7 @@ def is_standing(claim, value):
     terms = greater_terms(claim)
     if not isinstance(value, tuple) or len(value) != len(terms):
         return False
-    return all([is_lot(claim[0], lot) and lot in stands_of(claim[0], blocks) for lot, (blocks, _) in zip(value, terms)])
+    return all([lot in stands_of(claim[0], blocks) for lot, (blocks, _) in zip(value, terms)])
 
 
 def frame_of_standing(claim, sort, standing):

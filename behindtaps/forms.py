@@ -5,7 +5,7 @@ from itertools import combinations
 from behindtaps.errors import BadForm, BadNet, BadNumber, BadPlaces, BadSort
 from behindtaps.flows import all_plain, what_a_lot_lets
 from behindtaps.kinds import REACH, check_reach, check_table, failed_by, kinds_of, net_of_kinds, pairs_of, wall_in_kind
-from behindtaps.lots import are_taps, check_sort, check_taps, plain_lot_in, plain_lots_in
+from behindtaps.lots import are_taps, check_taps, plain_lot_in, plain_lots_in
 from behindtaps.nets import FEWEST_TAPS_TO_LEAVE_ONE_OUT, check_net, has_kind, sort_in
 from behindtaps.numbers import is_less, is_number_from_0, minus, plus, sum_of, sum_of_products, times, top_of
 from behindtaps.numbers import turned
@@ -39,7 +39,6 @@ def form_of_net(net):
 def form_of_table(taps, sort, table):
     """The form of all nets with this table, or the first check that the table fails."""
     check_taps(taps)
-    check_sort(sort)
     if sort == "leads":
         raise BadSort("nets with leads have no form")
     check_table(taps, sort, table)
@@ -186,7 +185,7 @@ def check_net_without_leads(net):
 def check_tap_of_form(form, tap):
     """Checks that it is a tap of the form, which can do without it."""
     taps = taps_of_form(form)
-    if not isinstance(tap, str) or tap not in taps or len(taps) < FEWEST_TAPS_TO_LEAVE_ONE_OUT:
+    if tap not in taps or len(taps) < FEWEST_TAPS_TO_LEAVE_ONE_OUT:
         raise BadPlaces("it is a tap of the form, which has three taps at least")
 
 

@@ -95,8 +95,7 @@ def kinds_of(taps, sort):
     if sort == "leads":
         return kinds_of_leads(taps)
     found = [(taps, (("pipe", one, other, 1),)) for one, other in pairs_of(taps)]
-    if len(taps) >= 4:
-        found.extend([star_of(taps, [(tap, 1) for tap in four]) for four in combinations(list(taps), 4)])
+    found.extend([star_of(taps, [(tap, 1) for tap in four]) for four in combinations(list(taps), 4)])
     if len(taps) == 5:
         found.extend([star_of(taps, [(tap, 2 if tap == middle else 1) for tap in taps]) for middle in taps])
     if sort == "hubs" and len(taps) == 4:

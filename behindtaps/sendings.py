@@ -109,7 +109,7 @@ def sent_beside(first, sending, second, more):
 
 def is_pair(net, value):
     """Whether any value is a pair of the net."""
-    if not isinstance(value, tuple) or len(value) != 2 or not all([isinstance(tap, str) for tap in value]):
+    if not isinstance(value, tuple) or len(value) != 2:
         return False
     one, other = value
     if one not in net[0] or other not in net[0]:
@@ -170,7 +170,7 @@ def is_way(net, pair, value):
 
 def is_step_from(net, place, value):
     """Whether any value is a step through a part from this place to another one."""
-    if not isinstance(value, tuple) or len(value) != 2 or not is_whole(value[0]) or not isinstance(value[1], str):
+    if not isinstance(value, tuple) or len(value) != 2 or not is_whole(value[0]):
         return False
     return 0 <= value[0] < len(net[1]) and leads_through(net[1][value[0]], place, value[1])
 

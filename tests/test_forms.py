@@ -281,7 +281,7 @@ class StraightTest(unittest.TestCase):
                 form = form_of_net(net)
                 rest = [number for key, number in form.items() if len(key) != 2]
                 self.assertEqual(word == "straight", not any(rest))
-        self.assertGreater(min(seen.values()), 30, seen)
+        self.assertGreater(min(seen.values()), 15, seen)
 
     def test_bent_nets(self):
         # All pairs have the width 0 there, so the first lot has no wall at all.

@@ -46,6 +46,11 @@ def assert_least_sum(case, taps, facts, sort, terms, word=None, value=None):
     return told[0]
 
 
+def opened(terms, one, new):
+    """The terms in which each lot that has one has new, too."""
+    return tuple(sorted((tuple(sorted((*lot, new))) if one in lot else lot, weight) for lot, weight in terms))
+
+
 def hidden_facts(draw, net, many):
     """Facts that the net keeps, some of them measured walls."""
     facts = []
@@ -118,6 +123,44 @@ class LeastSumTest(unittest.TestCase):
             word = assert_least_sum(self, taps, facts, sort, few_lots_terms(draw, taps, sort, lesser, greater))
             words[sort, word] = words.get((sort, word), 0) + 1
         self.assertEqual(len(words), 9, words)
+
+    def test_opened_taps(self):
+        # What is told of melted taps has the same least sum when a tap is opened: lots with it have the new one, too.
+        draw = generator(910)
+        words = {}
+        for at in range(240):
+            sort = SORTS[at % 3]
+            net = hidden_net(draw, sort, draw.randint(2, REACH[sort]))
+            taps = net[0]
+            keys = keys_of(taps, sort)
+            greater = draw.sample(keys, min(len(keys), 2 if sort == "hubs" else 3))
+            lesser = draw.sample(keys, min(len(keys), 3))
+            facts = []
+            for _ in range(draw.randint(1, 5)):
+                terms = few_lots_terms(draw, taps, sort, greater, lesser)
+                facts.append((terms, as_number(counted_worth((taps, terms), net) + draw.choice((0, 0, 0, -1, 1)))))
+            terms = few_lots_terms(draw, taps, sort, lesser, greater)
+            told = least_sum(taps, facts, sort, terms)
+            one, wide = draw.choice(taps), taps
+            while len(wide) <= REACH[sort]:
+                new = f"{one}{len(wide)}"
+                wide = tuple(sorted((*wide, new)))
+                facts = [(opened(fact_terms, one, new), bound) for fact_terms, bound in facts]
+                terms = opened(terms, one, new)
+            value = told[1] if told[0] == "least" else None
+            assert_least_sum(self, wide, facts, sort, terms, told[0], value)
+            words[sort, told[0]] = words.get((sort, told[0]), 0) + 1
+        self.assertEqual(len(words), 9, words)
+
+    def test_forks_and_joins_of_opened_taps(self):
+        # Nothing but a fork from a, or d, lets 1 run to b and 1 to c if just 1 runs from a and d, and none from b and c.
+        facts = [(((("a", "d"), -1),), -1), (((("b",), -1),), 0), (((("c",), -1),), 0)]
+        terms = ((("a", "b", "d"), -1), (("a", "c", "d"), -1))
+        assert_least_sum(self, ABCD, facts, "leads", terms, "least", -2)
+        # The same the other way round: a join to a, or d.
+        facts = [(((("a", "b", "d"), -1),), 0), (((("a", "c", "d"), -1),), 0), (((("b", "c"), -1),), -1)]
+        terms = ((("b",), -1), (("c",), -1))
+        assert_least_sum(self, ABCD, facts, "leads", terms, "least", -2)
 
     def test_errors(self):
         no_terms = [terms for terms in NO_TERMS_OF_CLAIMS if terms != ()]

@@ -183,6 +183,7 @@ class SendingTest(unittest.TestCase):
         self.assertIs(is_sending((ABC, PIPES[1] + (("lead", "a", "b", 0),)), (turned,)), True)
         self.assertIs(is_sending(HUBS, ((("b", "a"), ((0, "a"),), 1),)), False)
         self.assertIs(is_sending(PIPES, ((("a", "x"), ((0, "x"),), 1),)), False)
+        self.assertIs(is_sending((("b", "c"), (("pipe", "a", "b", 1),)), ((AB, ((0, "b"),), 1),)), False)
 
     def test_limits(self):
         there_and_back = ((3, "b"), (3, "a"))
@@ -392,7 +393,7 @@ class MadeOfOthersTest(unittest.TestCase):
             self.assertEqual(carried(both, told), {pair: as_number(amount) for pair, amount in sums.items()})
             self.assertEqual(loads(both, told), loads(first, one) + loads(other, two))
             found += any(place.startswith("n") for *_, way, _ in told[len(one):] for _, place in way)
-        self.assertGreater(found, 10)
+        self.assertGreater(found, 3)
 
     def test_errors_of_sent_beside(self):
         assert_errors(self, sent_beside, (PIPES, (WAY,), PIPES, (WAY,)), [
