@@ -91,7 +91,7 @@ def cutters_for(frame, targets):
     at = {}
     for place, corner in enumerate(all_corners(len(frame[2]))):
         at[corner] = place
-    faces = [[at[corner] for corner in face_of(span)] for span in spans_of(frame)]
+    faces = [[at[one] for one in face_of(span)] for span in spans_of(frame)]
     found = []
     for ones, zeros, _ in targets:
         blocks = [[at[corner_of(frame, tap)] for tap in block] for block in (ones, zeros)]

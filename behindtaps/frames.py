@@ -89,7 +89,7 @@ def is_paper_of(frame, targets, value):
         at[corner] = place
     for span in spans_of(frame):
         face = [at[corner] for corner in face_of(span)]
-        steps = [step_along(frame[1], [numbers[corner] for corner in face]) for numbers in value]
+        steps = [step_along(frame[1], [numbers[one] for one in face]) for numbers in value]
         if any([step is None for step in steps]) or is_less(cost_of(frame, span), sum_of_products(weights, steps)):
             return False
     return True

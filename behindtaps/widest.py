@@ -162,7 +162,7 @@ def least_steps(taps, way):
     found = {}
     for step in steps:
         claim = claim_of_steps(taps, way, ((step, 1),))
-        if claim not in found.values():
+        if claim not in list(found.values()):
             found[step] = claim
     return found
 
@@ -177,7 +177,7 @@ def derived(claim, way, given):
     taps = claim[0]
     keys = keys_of(taps, way)
     steps = least_steps(taps, way)
-    claims = [*steps.values(), *[made_plain(one, way) for one in given]]
+    claims = list(steps.values()) + [made_plain(one, way) for one in given]
     told = lowest([(weights_at(one, keys), 0) for one in claims], weights_at(made_plain(claim, way), keys))
     if told[0] == "least":
         weighted = [(step, weight) for step, weight in zip(steps, told[3]) if weight != 0]
