@@ -189,7 +189,7 @@ def derived(claim, way, given):
 
 
 def parts_in_four(taps):
-    """The list of the ways to part the taps into four lots, each an ascending tuple of them."""
+    """The list of the ways to part the taps into four lots, each a tuple of them, ascending as their first taps are."""
     found = [()]
     for tap in taps:
         more = []
@@ -197,7 +197,7 @@ def parts_in_four(taps):
             more.extend([parts[:at] + (parts[at] + (tap,),) + parts[at + 1:] for at in range(len(parts))])
             more.append(parts + ((tap,),))
         found = [parts for parts in more if len(parts) <= 4]
-    return [tuple(sorted(parts)) for parts in found if len(parts) == 4]
+    return [parts for parts in found if len(parts) == 4]
 
 
 def claim_of_four(taps, parts):

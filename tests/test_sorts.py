@@ -239,6 +239,11 @@ class OneWayNetTest(unittest.TestCase):
         taps, parts = one_way_net((AB, (("hub", ("a", "b", "x"), 3),)))
         self.assertEqual((len(parts), {part[-1] for part in parts}), (7, {3}))
         self.assertEqual(one_way_net((AB, ())), (AB, ()))
+        # New places have names that no place has.
+        named = (("a", "n1"), (("hub", ("a", "n0"), 2), ("hub", ("n0", "n1", "n2"), 3)))
+        told = one_way_net(named)
+        self.assertEqual(len({place for part in told[1] for place in part[1:3]}), 8)
+        self.assertEqual(slow_walls(told, [("a",), ("n1",)]), {("a",): 2, ("n1",): 2})
         mixed = (AB, (("pipe", "a", "b", 1), ("lead", "b", "a", 0)))
         self.assertEqual(one_way_net(net=mixed), mixed)
 
