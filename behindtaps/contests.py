@@ -16,14 +16,14 @@ class Contest:
     together, the weights that show this are those by which the lots make a paper.
     """
 
-    def __init__(self, frame, targets):
+    def __init__(self, frame, targets, moves):
         self.corners = all_corners(len(frame[2]))
         self.spans = spans_of(frame)
         costs = [cost_of(frame, span) for span in self.spans]
         tops, _ = over_one_bottom([*costs, *[weight for _, _, weight in targets]])
         self.costs = tops[:len(costs)]
         self.weights = tops[len(costs):]
-        self.cutters = cutters_for(frame, targets)
+        self.cutters = cutters_for(frame, targets, moves)
         self.lots = []
         self.ascent = Climb([0] * len(costs) + self.weights)
         self.ascent.put_row(list(enumerate(self.costs)), 1)
@@ -86,38 +86,60 @@ class Contest:
         return found
 
 
-def cutters_for(frame, targets):
-    """What parts the ones of each target from its zeros."""
+def all_moves(frame, targets):
+    """For each target the directions that move it, where all do."""
+    return [list(range(len(frame[2]))) for _ in targets]
+
+
+def home_of(corner, moves):
+    """The corner that differs from this one along no direction that is among the moves, nearest to 0."""
+    return tuple([side if at in moves else 0 for at, side in enumerate(corner)])
+
+
+def cutters_for(frame, targets, moves):
+    """What parts the ones of each target from its zeros, along the directions alone that move it."""
+    corners = all_corners(len(frame[2]))
     at = {}
-    for place, corner in enumerate(all_corners(len(frame[2]))):
+    for place, corner in enumerate(corners):
         at[corner] = place
     faces = [[at[one] for one in face_of(span)] for span in spans_of(frame)]
     found = []
-    for ones, zeros, _ in targets:
-        blocks = [[at[corner_of(frame, tap)] for tap in block] for block in (ones, zeros)]
-        found.append(Cutter(len(at), faces, frame[1], blocks[0], blocks[1]))
+    for (ones, zeros, _), own in zip(targets, moves):
+        homes = [at[home_of(corner, own)] for corner in corners]
+        blocks = [[homes[at[corner_of(frame, tap)]] for tap in block] for block in (ones, zeros)]
+        found.append(Cutter(homes, faces, frame[1], blocks[0], blocks[1]))
     return found
 
 
-def can_be_parted(frame, target):
-    """Whether some numbers have 1 at the ones of a target and 0 at its zeros, and for leads never less above."""
-    for one in [corner_of(frame, tap) for tap in target[0]]:
-        for zero in [corner_of(frame, tap) for tap in target[1]]:
+def can_be_parted(frame, target, moves):
+    """Whether some numbers have 1 at the ones of a target and 0 at its zeros, and for leads never less above.
+
+    Along directions that do not move the target its numbers are equal.
+    """
+    for one in [home_of(corner_of(frame, tap), moves) for tap in target[0]]:
+        for zero in [home_of(corner_of(frame, tap), moves) for tap in target[1]]:
             if one == zero or (frame[1] == "leads" and lies_below(one, zero)):
                 return False
     return True
 
 
 def paper_or_net(frame, targets):
-    """("holds", paper) for these targets, or ("breaks", net) in which more runs than is let.
+    """("holds", paper) for these targets, or ("breaks", net) in which more runs than is let."""
+    word, shown = paper_or_widths(frame, targets, all_moves(frame, targets))
+    if word == "holds":
+        return (word, shown)
+    return (word, net_with_joints(frame, shown, wide_beyond(list(shown.values()))))
+
+
+def paper_or_widths(frame, targets, moves):
+    """("holds", paper) for targets with their moves, or ("breaks", widths) of spans by which more runs than is let.
 
     If a target cannot be parted at all, no widths are needed: what joins taps of one corner, or for
     leads what leads upwards, is enough.
     """
-    if not all([can_be_parted(frame, target) for target in targets]):
-        return ("breaks", net_with_joints(frame, {}, 1))
-    contest = Contest(frame, targets)
+    if not all([can_be_parted(frame, target, own) for target, own in zip(targets, moves)]):
+        return ("breaks", {})
+    contest = Contest(frame, targets, moves)
     if contest.holds():
         return ("holds", contest.paper())
-    widths = contest.told_widths()
-    return ("breaks", net_with_joints(frame, widths, wide_beyond(list(widths.values()))))
+    return ("breaks", contest.told_widths())

@@ -1,6 +1,6 @@
 """Rows about the widths of the spans of a cube and about what runs through it for each of some lots."""
 
-from behindtaps.contests import can_be_parted, cutters_for
+from behindtaps.contests import all_moves, can_be_parted, cutters_for
 from behindtaps.frames import directions_along, net_with_joints, spans_of, wide_beyond
 from behindtaps.lots import opposite_in
 from behindtaps.numbers import over_one_bottom, plus, top_of
@@ -21,8 +21,9 @@ class CubeWidths:
         self.spans = spans_of(self.frame)
         self.many = len(self.spans) + len(lesser)
         asked = [(lot, opposite_in(taps, lot), 1) for lot in lesser]
-        self.parted = [at for at, target in enumerate(asked) if can_be_parted(self.frame, target)]
-        self.cutters = cutters_for(self.frame, [asked[at] for at in self.parted])
+        moves = all_moves(self.frame, asked)
+        self.parted = [at for at, target in enumerate(asked) if can_be_parted(self.frame, target, moves[at])]
+        self.cutters = cutters_for(self.frame, [asked[at] for at in self.parted], moves)
 
     def row(self, terms):
         """The coefficients of terms: those above 0 count what runs from their lots, the others widths."""

@@ -8,15 +8,17 @@ class Cutter:
 
     Corners and spans are told by their numbers; faces has for each span the numbers of its corners,
     for pipes and leads just the low one and the high one. All ones are one node, and all zeros, too.
+    Each corner stays with its home, a corner, which alone may be told as one of the ones or zeros.
     """
 
-    def __init__(self, many, faces, sort, ones, zeros):
+    def __init__(self, homes, faces, sort, ones, zeros):
         self.of_sort = sort
         self.faces = faces
         self.current = Current()
         self.source = self.current.new_node()
         self.target = self.current.new_node()
-        self.nodes = [self.node_for(corner, ones, zeros) for corner in range(many)]
+        nodes = [self.node_for(corner, ones, zeros) for corner in range(len(homes))]
+        self.nodes = [nodes[home] for home in homes]
         self.arcs = [self.arc_of(face) for face in faces]
 
     def node_for(self, corner, ones, zeros):

@@ -164,10 +164,15 @@ def net_with_joints(frame, widths, wide):
     Nothing that parts the cube parts such taps, so this takes from no wall of a direction; what runs to
     one of them runs to all, if wide is beyond all widths.
     """
+    return (frame[0], tuple([*parts_along(frame, widths, wide), *joints_of(frame, wide)]))
+
+
+def joints_of(frame, wide):
+    """The pipes of the width wide that join each tap with the place of its corner, if it is another tap."""
     places = places_of_corners(frame)
     joints = []
     for tap in frame[0]:
         place = places[corner_of(frame, tap)]
         if place != tap:
             joints.append(("pipe", place, tap, wide))
-    return (frame[0], tuple([*parts_along(frame, widths, wide), *joints]))
+    return joints

@@ -50,6 +50,16 @@ MODULES = {
     "sendings": "parted(net, wishes, lot), is_sending(net, value), carried(net, sending), loads(net, sending), "
                 "distance(net, lengths, pair), is_bar(net, wishes, value), shrunk(net, sending, factor), "
                 "mixed(net, sending, more, factor), sent_beside(first, sending, second, more)",
+    "shares": "share(net, wishes), sent(net, wishes), at_once(net, wishes)",
+    "works": "is_work(value), boxes_of(work), inner_joints(work), with_nets(work, nets), work_form(work, contents), "
+             "side_sums(work, lot), work_worth(work, lot, contents), nested(work, name, inner)",
+    "worksums": "least_sums(work, lot), sum_verdict(work, lot, counts), always(terms, told=()), "
+                "is_always_paper(terms, told, value), told_apart(first, second), needless_boxes(work), "
+                "needless_pipes(work), thinned(work)",
+    "days": "is_story(value, trend), is_day_claim(value), plain_days(claim, sort), day_worth(claim, story), "
+            "turned_days(claim), pressed_days(claim), without_days(claim), day_parts(claim)",
+    "daycubes": "is_day_paper(claim, sort, trend, value), day_verdict(claim, sort, trend), "
+                "cube_story(claim, sort, trend, widths), trends_of(claim, sort)",
 }
 CLASSES = {
     "sorts": {"ClaimBook": ("(taps, claims=())", "taps", "put(claim), drop(claim), claims(), holding(realm), "
