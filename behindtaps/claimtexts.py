@@ -2,7 +2,7 @@
 
 from behindtaps.claims import check_claim, greater_terms, is_claim, lesser_terms, summed
 from behindtaps.errors import BadClaims, BadText
-from behindtaps.lots import are_taps, is_lot
+from behindtaps.lots import are_names, are_taps, is_lot
 from behindtaps.numbers import number_text, read_number, turned
 
 
@@ -67,29 +67,43 @@ def read_text(text):
     taps = tuple(names.split(" "))
     if not are_taps(taps):
         return None
-    left, _, right = sides.partition(" >= ")
-    left_terms = read_side(taps, left)
-    right_terms = read_side(taps, right)
+    terms = read_sides(sides)
+    if terms is None or not all([is_lot(taps, lot) for lot, _ in terms]):
+        return None
+    return summed(taps, terms)
+
+
+def read_sides(text):
+    """The list of the terms that two sides tell, weights on the right turned; None if they are no such sides."""
+    left, _, right = text.partition(" >= ")
+    left_terms = read_side(left)
+    right_terms = read_side(right)
     if left_terms is None or right_terms is None:
         return None
-    return summed(taps, left_terms + [(lot, turned(weight)) for lot, weight in right_terms])
+    return left_terms + [(lot, turned(weight)) for lot, weight in right_terms]
 
 
-def read_side(taps, text):
-    """The list of the terms that one side tells; None if it is no such side."""
+def read_side(text):
+    """The list of the terms that one side tells, of any names; None if it is no such side."""
     if text == "0":
         return []
-    terms = [read_term(taps, words) for words in text.split(" + ")]
+    terms = [read_term(words) for words in text.split(" + ")]
     if any([term is None for term in terms]):
         return None
     return terms
 
 
-def read_term(taps, text):
-    """The lot and the weight above 0 of a term; None if it is no term."""
+def read_term(text):
+    """The names, ascending, and the weight above 0 of a term; None if it is no term."""
     start, _, end = text.partition(" w(")
     weight = read_number(start)
-    lot = tuple(end[:-1].split(" "))
-    if not end.endswith(")") or not is_lot(taps, lot) or weight is None or weight == 0:
+    names = read_names(end[:-1])
+    if not end.endswith(")") or names is None or weight is None or weight == 0:
         return None
-    return (lot, weight)
+    return (names, weight)
+
+
+def read_names(text):
+    """The tuple of names, unlike and ascending, that a text tells; None if it tells none."""
+    names = tuple(text.split(" "))
+    return names if are_names(names) else None

@@ -60,10 +60,21 @@ MODULES = {
             "turned_days(claim), pressed_days(claim), without_days(claim), day_parts(claim)",
     "daycubes": "is_day_paper(claim, sort, trend, value), day_verdict(claim, sort, trend), "
                 "cube_story(claim, sort, trend, widths), trends_of(claim, sort)",
+    "deeds": "is_deeds(taps, value), are_of_sort(taps, deeds, sort), taps_behind(taps, deeds), done(net, deeds), "
+             "outside(taps, sort, table, deeds), first_unlike(taps, sort, table, other), options(taps, sort, deeds), "
+             "deeds_verdict(taps, sort, deeds, others), is_alike_paper(taps, sort, deeds, others, value)",
+    "needs": "needs(taps, sort, deeds), behind_needed(taps, sort, deeds, walls_told)",
+    "live": "",
+    "journals": "journal_text(house), entries_text(house), played(text)",
+    "desk": "",
 }
 CLASSES = {
     "sorts": {"ClaimBook": ("(taps, claims=())", "taps", "put(claim), drop(claim), claims(), holding(realm), "
                             "follows(claim, way), needed(way), joined(other), __eq__(other), __len__()")},
+    "live": {"House": ("(taps, sort)", "taps, of_sort", "tell(terms, bound), measure(lot, number), back(), again(), entries(), "
+                       "facts(), log(), copy(), range_of(lot), ranges(), settled(), follows(terms, bound), net(), "
+                       "conflicts(terms, bound), ways_out(terms, bound), thinned(), __eq__(other), __len__()")},
+    "desk": {"Desk": ("()", "house", "say(row)")},
 }
 
 
