@@ -94,9 +94,9 @@ class Share:
                 found.append((told[start][end][0], way_to(told[start], end)))
         return found
 
-    def put_ways(self, ways):
+    def put_ways(self, found):
         """Puts in pairs of the number of a pair of taps and a way of it."""
-        for at, way in ways:
+        for at, way in found:
             row = [(self.many + at, 1)]
             for part in sorted(set([part for part, _ in way])):
                 row.append((part, -len([1 for other, _ in way if other == part])))
