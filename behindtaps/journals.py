@@ -22,7 +22,7 @@ def played(text):
         raise BadText(1)
     lines = text.split("\n")
     first = read_row(lines[0])
-    if first is None or first[0] != "house" or len(lines) == 1:
+    if first is None or first[0] != "house":
         raise BadText(1)
     house = House(first[2], first[1])
     for at in range(1, len(lines) - 1):

@@ -23,35 +23,51 @@ def kept_or_clash(told, many):
 
 
 def paper_or_break(chosen, lesser, told, kept):
-    """("paper", (means, factors)), or ("breaks", point): numbers that keep what is told, as those called kept do."""
+    """("paper", (means, factors)), or ("breaks", point): numbers that keep what is told, as those called kept do.
+
+    That a lesser term is worth at most one of its sums is put in only when a point shows that it is needed.
+    """
     weights = [weight for _, weight in lesser]
     aim, scale = scaled_to_wholes([*weights, *[turned(entry) for entry in chosen]])
     climb = Climb(aim)
-    starts = []
-    scales = []
-    for at, (rows, _) in enumerate(lesser):
-        starts.append(climb.rows)
-        scales.append(put_lesser(climb, rows, at, len(lesser)))
-    start = climb.rows
     told_scales = put_told(climb, told, len(lesser))
     put_end(climb, len(aim))
     climb.go_up()
-    if climb.worth() > 0:
-        return ("breaks", breaking_point(climb.tops(), chosen, weights, kept))
-    means = [mean_of(weights_of(climb, first, own)) for first, own in zip(starts, scales)]
-    factors = [quotient(weight, scale) for weight in weights_of(climb, start, told_scales)]
+    start = climb.rows
+    bounds = []
+    while climb.worth() > 0:
+        tops = climb.tops()
+        point = tops[len(lesser):]
+        least = [least_sum_at(rows, point) for rows, _ in lesser]
+        worths = [worth for worth, _ in least]
+        if is_less(sum_of_products(chosen, point), sum_of_products(weights, worths)):
+            return ("breaks", breaking_point(point, chosen, sum_of_products(weights, worths), kept))
+        for at, (worth, place) in enumerate(least):
+            if is_less(worth, tops[at]):
+                bounds.append((at, place, put_lesser(climb, lesser[at][0][place], at, len(lesser))))
+        climb.mend()
+    shares = weights_of(climb, start, [own for _, _, own in bounds])
+    means = [mean_of(at, len(rows), bounds, shares) for at, (rows, _) in enumerate(lesser)]
+    factors = [quotient(weight, scale) for weight in weights_of(climb, 0, told_scales)]
     return ("paper", (tuple(means), tuple(factors)))
 
 
-def put_lesser(climb, rows, at, many):
-    """Puts in that the lesser term of this number, of so many, is worth at most each of its sums; the rows' scales."""
-    scales = []
-    for row in rows:
-        own = [1 if at == other else 0 for other in range(many)]
-        tops, scale = scaled_to_wholes([*own, *[turned(entry) for entry in row]])
-        climb.put_row(list(enumerate(tops)), 0)
-        scales.append(scale)
-    return scales
+def least_sum_at(rows, point):
+    """The least worth of the rows at a point, and the place of a row with it."""
+    worths = [sum_of_products(row, point) for row in rows]
+    best = 0
+    for at, worth in enumerate(worths):
+        if is_less(worth, worths[best]):
+            best = at
+    return worths[best], best
+
+
+def put_lesser(climb, row, at, many):
+    """Puts in that the lesser term of this number, of so many, is worth at most this sum; the row's scale."""
+    own = [1 if at == other else 0 for other in range(many)]
+    tops, scale = scaled_to_wholes([*own, *[turned(entry) for entry in row]])
+    climb.put_row(list(enumerate(tops)), 0)
+    return scale
 
 
 def put_told(climb, told, many):
@@ -75,20 +91,23 @@ def weights_of(climb, start, scales):
     return [times(quotient(weights.get(start + at, 0), climb.whole()), scale) for at, scale in enumerate(scales)]
 
 
-def mean_of(weights):
-    """The weights, divided so that they are together 1."""
-    total = sum_of(weights)
-    return tuple([quotient(weight, total) for weight in weights])
+def mean_of(term, many, bounds, shares):
+    """The weights of so many sums of the lesser term of this number, together 1, of the shares of what was put in."""
+    found = [0] * many
+    for (at, place, _), share in zip(bounds, shares):
+        if at == term:
+            found[place] = plus(found[place], share)
+    total = sum_of(found)
+    return tuple([quotient(weight, total) for weight in found])
 
 
-def breaking_point(tops, chosen, weights, kept):
-    """Numbers of the boxes that break, of unknowns for which the aim is above 0."""
-    worths = tops[:len(weights)]
-    numbers = tops[len(weights):-1]
-    if tops[-1] > 0:
-        return tuple([quotient(top, tops[-1]) for top in numbers])
+def breaking_point(point, chosen, lost, kept):
+    """Numbers of the boxes that break, of a point at which the lesser terms come to more than what is chosen."""
+    numbers = point[:-1]
+    if point[-1] > 0:
+        return tuple([quotient(top, point[-1]) for top in numbers])
     # The numbers alone lead below 0; they are put to kept ones so often that nothing else counts.
-    gain = minus(sum_of_products(weights, worths), sum_of_products(chosen[:-1], numbers))
+    gain = minus(lost, sum_of_products(chosen[:-1], numbers))
     often = plus(1, quotient(plus(sum_of_products(chosen[:-1], kept), chosen[-1]), gain))
     return tuple([plus(entry, times(often, top)) for entry, top in zip(kept, numbers)])
 

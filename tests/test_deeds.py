@@ -29,7 +29,8 @@ DEEDS = [("lay", PIPE), ("add", "d"), ("hide", "c"), ("melt", "a", "b"), ("scale
 NO_DEEDS_OF_ABC = (None, True, 1, "lay", (), ("lay",), ["lay", PIPE], ("lay", PIPE, 1), ("Lay", PIPE), ("add",), ("add", "a"),
                    ("add", "D"), ("add", None), ("add", ["d"]), ("add", "d", "e"), ("melt", "a"), ("melt", "a", "a"),
                    ("melt", "a", "d"), ("melt", "d", "a"), ("melt", "a", None), ("melt", "a", "b", "c"), ("melt", ["a"], "b"),
-                   ("hide", "d"), ("hide", None), ("hide", ("a",)), ("hide", "a", "b"), ("hide", {}), ("beside", (AB, ())),
+                   ("hide", "d"), ("hide", None), ("hide", ("a",)), ("hide", "a", "b"), ("hide", {}), ("turn", NET), ("turn", "d"),
+                   ("turn", 2), ("turn", PIPE), ("turn", "a", "b"), ("hide", NET), ("beside", (AB, ())),
                    ("beside", (ABCD, ())), ("beside", NET, NET), ("turn", "a"), ("lay", ("pipe", "a", "d", 1)),
                    ("lay", ("hub", ("a", "x"), 1)), ("lay", ("lead", "x", "a", 1)), {}, (None, None), (("lay",), PIPE)) + tuple(
                        ("scale", number) for number in NO_NUMBERS_FROM_0) + tuple(
@@ -424,6 +425,8 @@ class VerdictTest(unittest.TestCase):
             for new in (weights[::-1], weights + (0,), weights[:-1], list(weights),
                         weights[:place] + (as_number(fraction(weights[place]) + Fraction(1, LONG)),) + weights[place + 1:],
                         weights[:place] + (True,) + weights[place + 1:], weights[place:] + weights[:place],
+                        weights[:place] + (-1, 2) + weights[place + 2:], tuple(2 * weight - 1 if weight == 1 else 0 for weight in weights),
+                        tuple(3 * fraction(weight).numerator - 2 * (at != place) for at, weight in enumerate(weights)),
                         tuple(as_number(Fraction(1, len(weights))) for _ in weights)):
                 changed = list(papers[lot])
                 changed[side] = (new,) + papers[lot][side][1:]
@@ -434,7 +437,12 @@ class VerdictTest(unittest.TestCase):
                     wanted = False
                 self.assertIs(is_alike_paper(taps, sort, deeds, deeds, value), wanted, (taps, sort, deeds, value))
                 seen.append(wanted)
+            less = {key: told for key, told in papers.items() if key != lot}
+            both = papers[lot]
             for value in (None, [], {}, list(papers.items()), {**papers, ("z",): ()}, {**papers, lot: None}, {**papers, lot: ()},
+                          {**less, ("z",): both}, {**less, None: both}, {**papers, lot: (both[0][:-1], both[1])},
+                          {**papers, lot: (both[0], both[1] + both[1][:1])}, {**papers, lot: (both[0], both[1][1:])},
+                          {**papers, lot: both + both[:1]}, {**papers, lot: (list(both[0]), both[1])},
                           {**papers, lot: list(papers[lot])}, {**papers, lot: papers[lot][:1]}, {**papers, lot: (None, None)},
                           {key: told for key, told in papers.items() if key != lot}):
                 self.assertIs(is_alike_paper(taps, sort, deeds, deeds, value), False)
@@ -450,6 +458,12 @@ class VerdictTest(unittest.TestCase):
                 (3, BadDeeds, NO_DEEDS + other_sorts + others_left)]
         assert_errors(self, deeds_verdict, (ABC, "pipes", DEEDS, DEEDS), head)
         assert_errors(self, is_alike_paper, (ABC, "pipes", DEEDS, DEEDS, None), head)
+        # Deeds of another sort that leave the same taps.
+        for sort, deed in (("pipes", ("lay", LEAD)), ("pipes", ("lay", HUB)), ("leads", ("lay", HUB)), ("hubs", ("lay", LEAD))):
+            for function, rest in ((deeds_verdict, ()), (is_alike_paper, (None,))):
+                assert_raises(self, function, (ABC, sort, [deed], [deed], *rest), BadDeeds)
+                assert_raises(self, function, (ABC, sort, [deed], [], *rest), BadDeeds)
+                assert_raises(self, function, (ABC, sort, [], [deed], *rest), BadDeeds)
         self.assertEqual(deeds_verdict(others=[], deeds=[], sort="pipes", taps=AB), ("alike", {("a",): (((1,),), ((1,),))}))
         self.assertIs(is_alike_paper(value={("a",): (((1,),), ((1,),))}, others=[], deeds=[], sort="pipes", taps=AB), True)
         for sort, reach in REACH.items():

@@ -160,6 +160,7 @@ class WrongTest(unittest.TestCase):
             self.assertIsNone(line_of(HEAD + "tell 0 >= 0 by 0\ntell 0 >= 0 by 0\nback\n" + row + "\n"), row)
         for row in WRONG_ROWS:
             self.assertEqual(line_of(HEAD + row + "\n"), 2, row)
+            self.assertEqual(line_of(HEAD + "measure b = 1\nback\n" + row + "\n"), 4, row)
             self.assertEqual(line_of(HEAD + "measure a = 1\n" + row + "\nmeasure b = 1\n"), 3, row)
             self.assertEqual(line_of(HEAD + "measure a = 1\n" + row), 3 if row else None, row)
 

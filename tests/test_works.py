@@ -85,6 +85,15 @@ class JudgedTest(unittest.TestCase):
         work = (PQ, (("box", "p", ("p", "q", "q", "k")), ("box", "k", ("k", "q", "p", "p"))))
         self.assertEqual((boxes_of(work), inner_joints(work)), (["k", "p"], ["k"]))
         self.assertEqual(boxes_of(NO_BOX), [])
+        # A box that is called like a tap or a joint is none of them.
+        other = (PQ, (("box", "zp", ("p", "q", "q", "k")), ("box", "zk", ("k", "q", "p", "p")), ("pipe", "k", "p", 3)))
+        named = (PQ, work[1] + (("pipe", "k", "p", 3),))
+        for lot in (("p",), ("q",)):
+            told = [((counts[1], counts[0]), width) for counts, width in side_sums(other, lot)]
+            self.assertEqual(sorted(side_sums(named, lot)), sorted((counts[::-1], width) for counts, width in told))
+        inner = (ABCD, (("pipe", "a", "d", 1),))
+        self.assertEqual(nested(named, "k", inner), (PQ, (work[1][0], ("pipe", "k", "p", 1), ("pipe", "k", "p", 3))))
+        self.assertEqual(nested(named, "p", inner), (PQ, (("pipe", "k", "p", 1), work[1][1], ("pipe", "k", "p", 3))))
         for function in (boxes_of, inner_joints):
             assert_new(self, function, (BRIDGE,))
             assert_errors(self, function, (BRIDGE,), [(0, BadWork, NO_WORKS)])
@@ -99,6 +108,19 @@ class NetsInBoxesTest(unittest.TestCase):
         self.assertEqual(len(inner), 1)
         self.assertEqual(parts[0][1:3], tuple(sorted(("p", inner[0]))))
         self.assertEqual(parts[2][1:3], ("q", "x"))
+
+    def test_new_names_are_none_of_the_taps_and_joints(self):
+        net = (ABCD, (("pipe", "a", "x", 1), ("pipe", "b", "n0", 2), ("pipe", "c", "n1", 3)))
+        work = (("n0", "n3"), (("box", "k", ("n0", "n3", "n1", "n2")), ("box", "k", ("n5", "n2", "n3", "n1"))))
+        told = with_nets(work, {"k": net})
+        self.assertEqual(len(net_places(told)), 5 + 6)
+        inner = (ABCD, (("pipe", "a", "x", 1), ("pipe", "b", "x", 2), ("pipe", "c", "y", 3)))
+        one = (work[0], work[1][:1])
+        taps, uses = nested(one, "k", inner)
+        self.assertEqual(len({joint for use in uses for joint in use[1:3]} | {"n2"}), 6)
+        self.assertEqual(sorted(inner_joints((taps, uses)))[0], "n1")
+        self.assertEqual(len(inner_joints((taps, uses))), 3)
+        self.assertEqual(len(inner_joints(nested((("n0", "n1"), (("box", "k", ("n0", "n1", "n2", "n3")),)), "k", inner))), 3)
 
     def test_each_use_has_other_inner_places_and_loops_are_left_out(self):
         # With both legs at p the pipe from a to b is left out; the inner place of each use is another one.

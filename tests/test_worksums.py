@@ -395,6 +395,13 @@ class AlwaysTest(unittest.TestCase):
             told = [(tuple(((draw.choice("klm"), draw.choice(all_lots(ABCD))), draw.choice((1, 2))) for _ in range(4)),
                      draw.choice((0, 1, -1, 3, -4, (1, 2)))) for _ in range(6)]
             assert_always(self, tuple(terms), told)
+        # All choices must be gone through where the terms hold: one wall is not less than five fifths of it.
+        work = (PQ, ())
+        while not 24 <= len(least_sums(work, P)) <= 32:
+            work = drawn_work(draw, ("p", "q", "r", "s"), 5, 3, 12, "whole", 0.2)
+        terms = (((work, P), 1),) + (((work, P), (-1, 5)),) * 5
+        told = [((((name, lot), 1),), 1) for name in "klm" for lot in (("a",), ("b",))]
+        self.assertEqual(always(terms, told)[0], "holds")
         self.assertLess(time.process_time() - started, 60)
 
 
