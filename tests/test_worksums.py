@@ -373,7 +373,9 @@ class AlwaysTest(unittest.TestCase):
         no_terms += tuple((((BOX, ("a",)), weight),) for weight in NO_NUMBERS) + tuple((((work, P), 1),) for work in NO_WORKS)
         item = (((("k", ("a",)), 1),), 1)
         no_told = (None, True, 1, {}, "told", [None], [()], [((), None)], [((), True)], [([], 1)], [[(), 1]], [item] * 7,
-                   [item, 1], [(item[0],)], [(item[0], 1, 1)], [((None,), 1)], [((("k", 1),), 1)], [(((("k",), 1),), 1)])
+                   [item, 1], [(item[0],)], [(item[0], 1, 1)], [((None,), 1)], [((("k", 1),), 1)], [(((("k",), 1),), 1)],
+                   [(((["k", ("a",)], 1),), 1)], [(((("k", ("a",)), 1, 1),), 1)], [(([("k", ("a",)), 1],), 1)], [(((("k", ("a",)),),), 1)],
+                   [(((("k", ("a",), 1), 1),), 1)])
         no_told += tuple([((((name, ("a",)), 1),), 1)] for name in (None, 1, "K", "", ("k",), "k k"))
         no_told += tuple([(((("k", lot), 1),), 1)] for lot in ((), ABCD, ("p",), ("b", "a"), None, "a", ["a"]))
         no_told += tuple([(((("k", ("a",)), weight),), 1)] for weight in NO_NUMBERS + (0,))
