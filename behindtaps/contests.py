@@ -10,10 +10,11 @@ from behindtaps.numbers import divided, over_one_bottom
 class Contest:
     """The widths of the spans of a frame, of all sides together at most 1 by their costs, that let run the most.
 
-    Each target counts with its weight what can run from the corners of its ones to those of its zeros.
-    This is at most the cost of each lot of corners that parts them. Lots are put in only when the widths
-    found so far show that they are needed. If in the end no widths let run more than 1, all targets
-    together, the weights that show this are those by which the lots make a paper.
+    Each target counts with its weight what can run from the corners of its ones to those of its zeros,
+    where as much as one likes runs along the directions that do not move it. This is at most the cost of
+    each lot of corners that parts them. Lots are put in only when the widths found so far show that they
+    are needed. If in the end no widths let run more than 1, all targets together, the weights that show
+    this are those by which the lots make a paper.
     """
 
     def __init__(self, frame, targets, moves):

@@ -295,6 +295,11 @@ class AlwaysTest(unittest.TestCase):
         told = [(((("k", ("a",)), 1),), 1), (((("k", ("b",)), 1),), 2)]
         assert_always(self, (((BOX, ("c",)), -1), ((ONE, P), 10 ** 12)), told, "breaks")
         assert_always(self, (((ONE, P), 10 ** 29), ((BOX, ("c",)), (-1, LONG))), told, "breaks")
+        # What is lesser grows only a little faster than what is greater, and a wide pipe is ahead of it.
+        for more in ((), (((BOX, ("b",)), 1),)):
+            terms = (((BOX, ("a",)), 1), ((ONE, P), 10 ** 6), ((BOX, ("a",)), (-1001, 1000))) + more
+            assert_always(self, terms, [], "breaks")
+            assert_always(self, terms, told, "breaks")
 
     def test_papers_with_one_piece_changed(self):
         draw = generator(224)
@@ -324,6 +329,16 @@ class AlwaysTest(unittest.TestCase):
         self.assertEqual(paper_faults(term, told, (((((1,),)), (0, 1)),)), [])
         self.assertIs(is_always_paper(term, told, (paper,)), True)
         self.assertIs(is_always_paper(term, told, ((((1,),), (0, 0)),)), False)
+
+    def test_means_are_no_numbers_below_0(self):
+        # All walls of the box are told to be 0, so that any means would do.
+        told = [(tuple((("k", (tap,)), -1) for tap in ABCD), 0)]
+        term = (((TWO_SUMS, P), -1),)
+        for mean, right in (((1, 0), True), ((0, 1), True), (((1, 2), (1, 2)), True), ((2, -1), False), ((-1, 2), False),
+                            ((1, 1), False), ((0, 0), False), (((1, 2), (1, 3)), False)):
+            self.assertIs(is_always_paper(term, told, (((mean,), (10,)),)), right)
+        self.assertIs(is_always_paper(term, told, ((((1, 0),), (-10,)),)), False)
+        assert_always(self, term, told, "holds")
 
     def test_works_in_other_words(self):
         draw = generator(225)
