@@ -124,6 +124,18 @@ class ShareTest(unittest.TestCase):
             more = {pair: as_number(fraction(wish) * (most + Fraction(1, 10 ** 9))) for pair, wish in wishes.items()}
             assert_sent(self, net, more, Fraction(1, 2))
 
+    def test_wishes_of_all_pairs(self):
+        draw = generator(207)
+        for at in range(9):
+            net = drawn_net(draw, NAMES, SORTS[at % 3], 3, 40, "whole")
+            net = (NAMES, net[1][:18] + tuple(("pipe", *pair, 1) for pair in zip(NAMES, NAMES[1:])))
+            wishes = {pair: draw.randint(1, 5) for pair in pairs_of(net)}
+            self.assertEqual(len(wishes), 30 if net_sort(net) == "leads" else 15)
+            most = assert_share(self, net, wishes)
+            self.assertGreater(most, 0)
+            assert_sent(self, net, wishes, most)
+            assert_sent(self, net, {pair: as_number(fraction(wish) * most) for pair, wish in wishes.items()}, Fraction(1))
+
     def test_a_pair_without_a_way(self):
         net = (NAMES[:3], (("pipe", "a", "b", 1),))
         self.assertEqual(share(net, {AB: 1, ("a", "c"): 1}), (0, (), None))

@@ -523,6 +523,11 @@ class NeedlessTest(unittest.TestCase):
         self.assertEqual((needless_boxes(EXAMPLE), needless_pipes(EXAMPLE), thinned(EXAMPLE)), ([], [], EXAMPLE))
         self.assertEqual((needless_boxes(LOOSE), needless_pipes(LOOSE), thinned(LOOSE)), ([], [], LOOSE))
 
+    def test_a_joint_that_is_called_like_a_needless_box(self):
+        work = (PQ, (("pipe", "k", "p", 5), ("pipe", "k", "q", 2), ("box", "k", ("p",) * 4), ("box", "p", ("q", "q", "k", "k"))))
+        self.assertEqual((needless_boxes(work), needless_pipes(work)), (["k"], []))
+        self.assertEqual(thinned(work), (PQ, work[1][:2] + work[1][3:]))
+
     def test_each_of_two_is_needless_but_not_both(self):
         # One narrow pipe behind: of the two pipes ahead, each one alone is wide enough.
         work = (PQ, (("pipe", "p", "x", 2), ("pipe", "p", "x", 2), ("pipe", "q", "x", 2)))
